@@ -1,0 +1,1 @@
+"""Which secrets must be rotated, and in which order: the cheapest plan, and why none is cheaper."""
