@@ -41,10 +41,23 @@ def check_secret(world, secret):
         raise BadSecret("not a secret of the world")
 
 
+def check_use(world, use):
+    """Raise BadUse if a value is not a use of the world."""
+    if not world.has_use(use):
+        raise BadUse("not a use of the world")
+
+
 def check_uses(world, uses):
     """Raise BadUse if a value is not a list or tuple of uses of the world."""
     if not isinstance(uses, (list, tuple)) or not all([world.has_use(use) for use in uses]):
         raise BadUse("not a list or tuple of uses of the world")
+
+
+def is_choice(world, uses, value):
+    """Return whether a value is a list or tuple of different ones of some uses of the world, in order."""
+    if not isinstance(value, (list, tuple)) or not all([world.has_use(use) for use in value]):
+        return False
+    return list(value) == [use for use in uses if use in value]
 
 
 def is_step(world, value):

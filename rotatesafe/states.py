@@ -12,6 +12,14 @@ class State:
         self._held = {use: "old" for use in world.uses}
         self._messages = []
 
+    def accepted(self, secret):
+        """Return "old", "both" or "new": what the issuer of a secret accepts."""
+        return self._accepted[secret]
+
+    def version(self, use):
+        """Return "old" or "new": the version that a use holds."""
+        return self._held[use]
+
     def allows(self, step):
         """Return whether a step is possible."""
         word, secret = step[0], step[-1]
@@ -53,3 +61,18 @@ class State:
     def sent_messages(self):
         """Return the list of the messages that were sent so far."""
         return list(self._messages)
+
+
+def state_after(world, steps):
+    """Return the state after steps each of which is possible."""
+    state = State(world)
+    for step in steps:
+        state.take(step)
+    return state
+
+
+def all_steps(world):
+    """Return all steps of a world: mints, then sends and carries of each use, then retires."""
+    steps = [("mint", secret) for secret in world.secrets]
+    steps = steps + [(word, *use) for use in world.uses for word in ("send", "carry")]
+    return steps + [("retire", secret) for secret in world.secrets]

@@ -1,5 +1,6 @@
 """Help for the tests: odd values, seeded random worlds, and slow models written from DOC.md alone."""
 
+import heapq
 import itertools
 import random
 import unittest
@@ -27,6 +28,15 @@ ODD_VALUES = [None, True, False, 0, 1, -1, "", "A", "a b", b"app", [], {}, (), s
               {"app": 1}, ("app",), ("app", "x", "y"), (["app"], "x"), ("app", ["x"]), (True, "x"), ("app", None)]
 
 ROWS = [('app', 'token', ('key',), 3), ('app', 'key', (), 5), ('db', 'key', (), 2)]
+
+
+# In small_world(): not one of these is a list or tuple of 1 to 3 suspicions.
+NO_SUSPICIONS = ODD_VALUES + [
+    "key", ('key',), ['key'], [['key']], [('key', 'token')], [('key', 'key')], [('salt',)], [()], [('app',)],
+    [('key',)] * 4, (('key',),) * 4, [('key',), ()], [('key',), None], [('key',), ['token']], {('key',): 1},
+    {('key',)}, [(True,)], [('token', 1)], [(('key',),)], [('token', 'salt')], iter([('key',)])]
+
+NO_WORLDS = ODD_VALUES + [World, {('app', 'key'): ((), 1)}, [('app', 'key', (), 1)], "use app key 1\n"]
 
 
 class WithErrors(unittest.TestCase):
@@ -159,6 +169,105 @@ def random_plan(rng, world):
             break
         plan.append(rng.choice(steps))
     return plan
+
+
+def model_refused(world, plan, step):
+    return not model_possible(world, plan, step) or model_breaks(world, plan, step)
+
+
+def model_cost(world, suspicions, plan, allowed):
+    """Return the least cost of further steps that make a plan sound and carry only allowed uses, or None.
+
+    All states that can be reached are tried, the cheap ones first. A state is the set of the steps that were
+    executed, and for each that is a send the message, since what it is encrypted with depends on the order.
+    """
+    queue, count, seen = [(0, 0, model_state(world, plan))], 0, set()
+    while queue:
+        cost, _, state = heapq.heappop(queue)
+        if state in seen:
+            continue
+        seen.add(state)
+        known = [model_reads(world, suspicion, state[1]) for suspicion in suspicions]
+        if any(version == "new" for versions in known for _, version in versions):
+            continue
+        if all(("retire", secret) in state[0] for versions in known for secret, _ in versions):
+            return cost
+        for step in all_steps(world):
+            if model_refused(world, state[0], step) or step[0] == "carry" and step[1:] not in allowed:
+                continue
+            count += 1
+            price = world.cost(step[1:]) if step[0] == "carry" else 0
+            heapq.heappush(queue, (cost + price, count, model_next(world, state, step)))
+    return None
+
+
+def model_state(world, plan):
+    state = (frozenset(), frozenset())
+    for step in plan:
+        state = model_next(world, state, step)
+    return state
+
+
+def model_next(world, state, step):
+    done, messages = state
+    if step[0] == "send":
+        keys = frozenset((other, "new" if model_has_new(done, (step[1], other)) else "old")
+                         for other in world.channel(step[1:]))
+        messages = messages | {(keys, (step[2], "new"))}
+    return done | {step}, messages
+
+
+def model_reads(world, suspicion, messages):
+    known = {(secret, "old") for secret in suspicion}
+    past = {(frozenset((other, "old") for other in world.channel(use)), (use[1], "old"))
+            for use in world.uses if world.channel(use)}
+    for _ in past | messages:
+        known |= {content for keys, content in past | messages if keys <= known}
+    return known
+
+
+def model_leaks(world, suspicions):
+    """Return the lists of the exposed secrets, by what is read of the old messages."""
+    known = [model_knows(world, suspicion, []) for suspicion in suspicions]
+    return [[secret for secret in world.secrets if (secret, "old") in versions] for versions in known]
+
+
+def model_needed(world, suspicions):
+    lost = sum(model_leaks(world, suspicions), [])
+    return [use for use in world.uses if use[1] in lost]
+
+
+def model_is_knot(world, leaks, knot):
+    """Follow the words of the document for a list of different needed uses, in order."""
+    return len(knot) > 0 and all(
+        any(all(other in secrets for other in world.channel(use)) for secrets in leaks)
+        and all((use[0], other) in knot for other in world.channel(use)) for use in knot)
+
+
+def sublists(items):
+    """Return all lists of some items, in their order."""
+    return [list(some) for size in range(len(items) + 1) for some in itertools.combinations(items, size)]
+
+
+def total(world, uses):
+    return sum(world.cost(use) for use in uses)
+
+
+def dense_world(rng, services, secrets, count):
+    """Return a world of so many uses, most of which have a channel, with costs that often are the same."""
+    pairs = list(itertools.product("abcdefghijkl"[:services], "uvwxyz"[:secrets]))
+    rng.shuffle(pairs)
+    pairs = pairs[:count]
+    rows = []
+    for service, secret in pairs:
+        others = [other for name, other in pairs if name == service and other != secret]
+        size = min(len(others), rng.choice([0, 1, 1, 2, 2, 3]))
+        rows.append((service, secret, tuple(rng.sample(others, size)), rng.choice([1, 2, 2, 3, 9])))
+    return World.of(*rows)
+
+
+def random_suspicions(rng, world):
+    return [random_suspicion(rng, world) for _ in range(rng.randint(1, 3))]
 
 
 def model_breaks(world, plan, step):
